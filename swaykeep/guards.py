@@ -1,0 +1,85 @@
+"""What is looked at in things that are handed in, and the refusals of those that are none.
+
+A house is asked here only for its length, so that the file of houses can rest on this one.
+"""
+
+from swaykeep.errors import NoHistory, NoLatch, NoOrder, NoStand, NoSwell
+
+
+def is_whole(thing):
+    """Whether a thing is a whole number: an int that is no truth."""
+    return isinstance(thing, int) and not isinstance(thing, bool)
+
+
+def is_latch(house, thing):
+    """Whether a thing is the number of a latch of a house."""
+    return is_whole(thing) and 0 <= thing < len(house)
+
+
+def is_rising(thing):
+    """Whether a thing is a stand of some house: a tuple of rising whole numbers from 0 on."""
+    if not isinstance(thing, tuple):
+        return False
+    last = -1
+    for latch in thing:
+        if not is_whole(latch) or latch <= last:
+            return False
+        last = latch
+    return True
+
+
+def is_rising_below(thing, many):
+    """Whether a thing is a stand of a house of so many latches."""
+    return is_rising(thing) and (len(thing) == 0 or thing[-1] < many)
+
+
+def is_order(house, thing):
+    """Whether a thing is a tuple of all numbers of a house's latches, each once."""
+    if not isinstance(thing, tuple) or not all([is_whole(latch) for latch in thing]):
+        return False
+    return sorted(thing) == list(range(len(house)))
+
+
+def check_latch(house, latch):
+    """Refuse what is no latch of a house."""
+    if not is_latch(house, latch):
+        raise NoLatch(latch)
+
+
+def check_stand(house, stand):
+    """Refuse what is no stand of a house."""
+    if not is_rising_below(stand, len(house)):
+        raise NoStand(stand)
+
+
+def check_rising(stand):
+    """Refuse what is a stand of no house."""
+    if not is_rising(stand):
+        raise NoStand(stand)
+
+
+def check_swell(swell):
+    """Refuse what is no swell."""
+    if not is_whole(swell):
+        raise NoSwell(swell)
+
+
+def check_moment(house, stand, swell):
+    """Refuse what is no stand of a house, then what is no swell."""
+    check_stand(house, stand)
+    check_swell(swell)
+
+
+def check_order(house, order):
+    """Refuse what is no order of all latches of a house."""
+    if not is_order(house, order):
+        raise NoOrder(order)
+
+
+def check_history(history):
+    """Refuse a history that is empty, or in which something is no swell."""
+    if not isinstance(history, (list, tuple)) or len(history) == 0:
+        raise NoHistory(0)
+    for place, swell in enumerate(history):
+        if not is_whole(swell):
+            raise NoHistory(place)

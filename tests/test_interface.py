@@ -1,0 +1,70 @@
+"""The interface: names, arguments and where each is defined."""
+
+import importlib
+import inspect
+import unittest
+
+FUNCTIONS = {
+    "houses": {"is_stand": "(house, thing)"},
+    "pulls": {
+        "help_in": "(house, stand, latch)", "pull": "(house, stand, latch, swell)", "wants": "(house, stand, swell)",
+        "is_settled": "(house, stand, swell)", "span": "(house, stand)", "torn": "(house, stand)"},
+    "judge_torn": {"torn_shows": "(house, stand, paper)"},
+    "turning": {
+        "moved": "(house, by)", "turned": "(house)", "renamed": "(house, order)", "others": "(house, stand)"},
+    "htexts": {
+        "show_house": "(house)", "show_stand": "(stand)", "read_house": "(text)", "read_stand": "(text)"},
+    "settling": {
+        "climbed": "(house, stand, swell)", "sunk": "(house, stand, swell)",
+        "climb_row": "(house, stand, swell, *, order=None)", "sink_row": "(house, stand, swell, *, order=None)",
+        "climb_waves": "(house, stand, swell)", "sink_waves": "(house, stand, swell)",
+        "up_first": "(house, stand, swell)", "down_first": "(house, stand, swell)",
+        "climb_paper": "(house, stand, swell)", "sink_paper": "(house, stand, swell)", "least_at": "(house, swell)",
+        "greatest_at": "(house, swell)", "joined": "(house, swell, one, other)", "met": "(house, swell, one, other)",
+        "settled_at": "(house, swell)"},
+    "judge_settled": {"settling_shows": "(house, stand, swell, end, paper)"},
+    "legs": {
+        "leg": "(house, stand, start, end)", "led": "(house, stand, history)",
+        "there_and_back": "(house, stand, swell, far)", "bears": "(house, stand, swell, far)",
+        "is_within": "(one, other)", "helped_no_less": "(house, other)",
+        "passing": "(house, stand, history, other, other_stand, other_history)"},
+    "falls": {
+        "falls": "(house, stand, start, end)", "rounds": "(house, stand, swell, *, up=True)",
+        "next_move": "(house, stand, swell, *, up=True)", "branch": "(house, stand, swell, *, up=True)",
+        "going": "(house, stand, swell, latch)", "fall_paper": "(house, stand, swell, *, up=True)",
+        "going_paper": "(house, stand, swell, latch)", "floor": "(house)", "roof": "(house)"},
+    "judge_falls": {"fall_holds": "(house, paper)", "going_holds": "(house, stand, swell, paper)"},
+}
+
+CLASSES = {
+    ("houses", "House"): {
+        "__init__": "(self, latches, helps=())", "latches": "(self)", "helps": "(self)", "up_at": "(self, latch)",
+        "down_at": "(self, latch)", "all_help": "(self, latch)", "__eq__": "(self, other)", "__len__": "(self)",
+        "__repr__": "(self)"},
+    ("legthings", "Leg"): {
+        "__init__": "(self, house, stand, start, end)", "its_house": "(self)", "first_stand": "(self)",
+        "last_stand": "(self)", "from_swell": "(self)", "to_swell": "(self)", "goes": "(self)", "its_falls": "(self)",
+        "went": "(self)", "stand_at": "(self, swell)", "cut_at": "(self, swell)", "joined_with": "(self, leg)",
+        "turned_round": "(self)", "__eq__": "(self, other)", "__len__": "(self)", "__repr__": "(self)"},
+}
+
+
+class InterfaceTest(unittest.TestCase):
+    def test_functions_stand_in_their_files_with_their_arguments(self):
+        for file, functions in FUNCTIONS.items():
+            module = importlib.import_module(f"swaykeep.{file}")
+            for name, arguments in functions.items():
+                function = getattr(module, name)
+                self.assertEqual(f"swaykeep.{file}", function.__module__, name)
+                self.assertEqual(arguments, str(inspect.signature(function)), name)
+
+    def test_methods_stand_in_the_classes_themselves(self):
+        for (file, name), methods in CLASSES.items():
+            found = getattr(importlib.import_module(f"swaykeep.{file}"), name)
+            self.assertEqual(f"swaykeep.{file}", found.__module__)
+            for method, arguments in methods.items():
+                self.assertEqual(arguments, str(inspect.signature(vars(found)[method])), method)
+
+
+if __name__ == "__main__":
+    unittest.main()
