@@ -8,8 +8,8 @@ from swaykeep.houses import House
 from swaykeep.judge_falls import fall_holds, going_holds
 from swaykeep.legs import led, leg
 from swaykeep.turning import moved
-from tests.samples import (BIG, NO_WORDS, STRANGE, Refusals, all_of, all_stands, slow_falls, slow_settled, slow_wants, some_history,
-                           some_house, some_houses)
+from tests.samples import (BIG, NO_WORDS, STRANGE, Refusals, all_of, all_stands, slow_falls, slow_settled, slow_wants,
+                           some_history, some_house, some_houses)
 
 CHAIN = House(((2, 0), (5, 3), (8, 1)), ((0, 1, 3), (1, 2, 5)))
 NO_STANDS = (*STRANGE, (3,), (-1,), (0, 0), (1, 0), [0, 1], 0)
@@ -127,14 +127,18 @@ class FallPaperTest(Refusals, unittest.TestCase):
         self.assertIs(True, fall_holds(CHAIN, held))
         wrong = (
             list(held), held[:4], held + ((),), ("Fall", *held[1:]), (b"fall", *held[1:]), (None, *held[1:]),
-            ("fall", "down", *held[2:]), ("fall", "UP", *held[2:]), ("fall", True, *held[2:]), ("fall", None, *held[2:]),
-            ("fall", "up", [], 2, [(0,), (1,)]), ("fall", "up", (0,), 2, [(0,), (1,)]), ("fall", "up", (9,), 2, [(0,), (1,)]),
+            ("fall", "down", *held[2:]), ("fall", "UP", *held[2:]), ("fall", True, *held[2:]),
+            ("fall", None, *held[2:]),
+            ("fall", "up", [], 2, [(0,), (1,)]), ("fall", "up", (0,), 2, [(0,), (1,)]),
+            ("fall", "up", (9,), 2, [(0,), (1,)]),
             ("fall", "up", (True,), 2, [(0,), (1,)]), ("fall", "up", None, 2, [(0,), (1,)]),
             ("fall", "up", (), 3, [(0,), (1,), (2,)]), ("fall", "up", (), 2.0, [(0,), (1,)]),
             ("fall", "up", (), None, [(0,), (1,)]), ("fall", "up", (), 1, []), ("fall", "up", (), 1, [()]),
             ("fall", "up", (), 2, []), ("fall", "up", (), 2, [(0,)]), ("fall", "up", (), 2, [(0, 1)]),
-            ("fall", "up", (), 2, [(0,), (1,), ()]), ("fall", "up", (), 2, [(1,), (0,)]), ("fall", "up", (), 2, ((0,), (1,))),
-            ("fall", "up", (), 2, [[0], [1]]), ("fall", "up", (), 2, [(False,), (1,)]), ("fall", "up", (), 2, [(0,), (True,)]),
+            ("fall", "up", (), 2, [(0,), (1,), ()]), ("fall", "up", (), 2, [(1,), (0,)]),
+            ("fall", "up", (), 2, ((0,), (1,))),
+            ("fall", "up", (), 2, [[0], [1]]), ("fall", "up", (), 2, [(False,), (1,)]),
+            ("fall", "up", (), 2, [(0,), (True,)]),
             ("fall", "up", (), 2, [(0,), (1.0,)]), ("fall", "up", (), 2, [(0,), (9,)]), ("fall", "up", (), 2, None),
             ("fall", "up", (), 2, [0, 1]), ("fall", "up", (), 2, "01"), ("fall", "up", (), True, [(0,), (1,)]), ())
         words = [(word, *held[1:]) for word in NO_WORDS] + [("fall", word, *held[2:]) for word in NO_WORDS]
@@ -248,8 +252,10 @@ class GoingTest(Refusals, unittest.TestCase):
             ("goes", 2.0, *held[2:]), ("goes", None, *held[2:]), ("goes", (2,), *held[2:]), ("goes", 2, [], last),
             ("goes", 2, ((2, (0, 1)),), last), ("goes", 2, [[2, (0, 1)]], last), ("goes", 2, [(2, [0, 1])], last),
             ("goes", 2, [(2, (0,)), (2, (1,))], last), ("goes", 2, [(1, (0, 1))], last), ("goes", 2, [(2, (0,))], last),
-            ("goes", 2, [(2, (1, 0))], last), ("goes", 2, [(2, (0, 1)), (2, ())], last), ("goes", 2, [(2.0, (0, 1))], last),
-            ("goes", 2, [(2, (False, 1))], last), ("goes", 2, [(2, (0, True))], last), ("goes", 2, [(2, (0, 1), 0)], last),
+            ("goes", 2, [(2, (1, 0))], last), ("goes", 2, [(2, (0, 1)), (2, ())], last),
+            ("goes", 2, [(2.0, (0, 1))], last),
+            ("goes", 2, [(2, (False, 1))], last), ("goes", 2, [(2, (0, True))], last),
+            ("goes", 2, [(2, (0, 1), 0)], last),
             ("goes", 2, [(2, (0, 1)), (3, (2,))], last), ("goes", 2, [None], last), ("goes", 2, None, last),
             ("goes", 2, "", last), ("goes", 2, [(2, (0, 1))], None), ("goes", 2, [(2, (0, 1))], list(last)),
             ("goes", 2, [(2, (0, 1))], ("fall", "up", (0, 1), 4, [(2,)])),
@@ -276,7 +282,8 @@ class GoingTest(Refusals, unittest.TestCase):
         back = ("goes", 0, [(2, (0, 1))], ("fall", "down", (0, 1), 0, [(0, 1)]))
         self.assertIs(True, fall_holds(CHAIN, back[3]))
         self.assertIs(False, going_holds(CHAIN, (), 0, back))
-        self.assertIs(False, going_holds(CHAIN, (0, 1), 2, ("goes", 0, [(0, (0, 1))], ("fall", "up", (), 2, [(0,), (1,)]))))
+        self.assertIs(False, going_holds(CHAIN, (0, 1), 2,
+                                         ("goes", 0, [(0, (0, 1))], ("fall", "up", (), 2, [(0,), (1,)]))))
 
     def test_false_where_the_stand_is_not_settled(self):
         paper = going_paper(CHAIN, (), 0, 1)

@@ -9,18 +9,18 @@ PACKAGE = pathlib.Path(__file__).resolve().parent.parent / "swaykeep"
 FILES = sorted(path for path in PACKAGE.rglob("*") if "__pycache__" not in path.parts)
 
 # the builtins that the package uses, all of them allowed
-BUILTINS = {"all", "any", "enumerate", "int", "isinstance", "len", "list", "max", "min", "range", "sorted", "str", "sum",
-            "tuple", "zip", "bool", "ValueError"}
+BUILTINS = {"all", "any", "enumerate", "int", "isinstance", "len", "list", "max", "min", "range", "sorted", "str",
+            "sum", "tuple", "zip", "bool", "ValueError"}
 METHODS = {"append", "extend", "get", "index", "isascii", "isdigit", "join", "split", "startswith"}
 BARRED = {"register", "mro", "elements", "open", "input", "law", "help", "id", "vars", "dir", "type", "super", "exit",
           "hash", "next", "iter", "format"}
 NODES = (
-    ast.Module, ast.Expr, ast.Constant, ast.ImportFrom, ast.alias, ast.FunctionDef, ast.arguments, ast.arg, ast.ClassDef,
-    ast.Return, ast.If, ast.For, ast.While, ast.Raise, ast.Assign, ast.AugAssign, ast.Name, ast.Load, ast.Store,
-    ast.Attribute, ast.Call, ast.keyword, ast.Compare, ast.BoolOp, ast.And, ast.Or, ast.UnaryOp, ast.Not, ast.USub,
-    ast.BinOp, ast.Add, ast.Sub, ast.Mult, ast.Eq, ast.NotEq, ast.Lt, ast.LtE, ast.Gt, ast.GtE, ast.Is, ast.IsNot, ast.In,
-    ast.NotIn, ast.IfExp, ast.Tuple, ast.List, ast.Dict, ast.ListComp, ast.DictComp, ast.comprehension, ast.Subscript,
-    ast.Slice, ast.Starred, ast.JoinedStr, ast.FormattedValue)
+    ast.Module, ast.Expr, ast.Constant, ast.ImportFrom, ast.alias, ast.FunctionDef, ast.arguments, ast.arg,
+    ast.ClassDef, ast.Return, ast.If, ast.For, ast.While, ast.Raise, ast.Assign, ast.AugAssign, ast.Name, ast.Load,
+    ast.Store, ast.Attribute, ast.Call, ast.keyword, ast.Compare, ast.BoolOp, ast.And, ast.Or, ast.UnaryOp, ast.Not, ast.USub,
+    ast.BinOp, ast.Add, ast.Sub, ast.Mult, ast.Eq, ast.NotEq, ast.Lt, ast.LtE, ast.Gt, ast.GtE, ast.Is, ast.IsNot,
+    ast.In, ast.NotIn, ast.IfExp, ast.Tuple, ast.List, ast.Dict, ast.ListComp, ast.DictComp, ast.comprehension,
+    ast.Subscript, ast.Slice, ast.Starred, ast.JoinedStr, ast.FormattedValue)
 
 
 def tree_of(path):

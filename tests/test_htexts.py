@@ -80,7 +80,8 @@ class HouseTextTest(Refusals, unittest.TestCase):
         self.no_house("latches", None, "latch 1 0\n" * 15)
         self.no_house("latches", None, "help 0 1 1\n")
         self.no_house("help", 0, "latch 1 0\nhelp 0 1 1\n")
-        for row in ("help -1 0 1", "help 0 0 1", "help 0 2 1", "help 0 1 0", "help 0 1 10", "help 0 1 -1", "help 1 0 9"):
+        for row in ("help -1 0 1", "help 0 0 1", "help 0 2 1", "help 0 1 0", "help 0 1 10", "help 0 1 -1",
+                    "help 1 0 9"):
             self.no_house("help", 1, f"latch 1 0\nlatch 1 0\nhelp 1 0 9\n{row}\n")
 
     def test_rows_left_out_and_told_twice(self):

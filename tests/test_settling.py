@@ -73,7 +73,8 @@ class EndsTest(Refusals, unittest.TestCase):
         self.assertEqual((), sunk(house, all_of(house), -10 * BIG + 1))
 
     def test_refusals_in_their_order(self):
-        asks = (climbed, sunk, climb_row, sink_row, climb_waves, sink_waves, up_first, down_first, climb_paper, sink_paper)
+        asks = (climbed, sunk, climb_row, sink_row, climb_waves, sink_waves, up_first, down_first, climb_paper,
+                sink_paper)
         for ask in asks:
             for thing in NO_STANDS:
                 self.refused(NoStand, {"stand": thing}, lambda: ask(CHAIN, thing, None))
@@ -111,7 +112,8 @@ class RowTest(Refusals, unittest.TestCase):
 
     def test_orders_of_anything(self):
         for ask in (climb_row, sink_row):
-            for thing in (*STRANGE, (), (0, 1), (0, 1, 1), (0, 1, 2, 2), [0, 1, 2], (0, True, 2), (-1, 0, 1), (1, 2, 3)):
+            for thing in (*STRANGE, (), (0, 1), (0, 1, 1), (0, 1, 2, 2), [0, 1, 2], (0, True, 2), (-1, 0, 1),
+                          (1, 2, 3)):
                 if thing is not None:
                     self.refused(NoOrder, {"order": thing}, lambda: ask(CHAIN, (), 0, order=thing))
             self.refused(NoStand, {"stand": (9,)}, lambda: ask(CHAIN, (9,), None, order=1))
@@ -190,14 +192,15 @@ class PaperTest(Refusals, unittest.TestCase):
     def test_sunk_paper_tells_the_pulls_of_those_that_stay_up(self):
         house = House(((2, 0), (5, 3), (8, 1)), ((1, 2, 4),))
         self.assertEqual(("sunk", ((0, 0), (1, 0)), ()), sink_paper(house, (0, 1), 0))
-        self.assertEqual(("sunk", ((1, 2), (2, 2)), ((0, 2),)), sink_paper(House(((2, 0), (5, 3), (8, 3)), ((1, 2, 4),)),
-                                                                          (0, 1, 2), 2))
+        self.assertEqual(("sunk", ((1, 2), (2, 2)), ((0, 2),)),
+                         sink_paper(House(((2, 0), (5, 3), (8, 3)), ((1, 2, 4),)), (0, 1, 2), 2))
 
     def test_told_papers_are_shown(self):
         for house in some_houses(20):
             for stand in all_stands(house):
                 for swell in SWELLS:
-                    for ask, row, end, up in ((climb_paper, climb_row, climbed, True), (sink_paper, sink_row, sunk, False)):
+                    for ask, row, end, up in ((climb_paper, climb_row, climbed, True),
+                                              (sink_paper, sink_row, sunk, False)):
                         told, last = ask(house, stand, swell), end(house, stand, swell)
                         self.assertIs(True, settling_shows(house, stand, swell, last, told))
                         word, went, stayed = told
@@ -220,14 +223,16 @@ class PaperTest(Refusals, unittest.TestCase):
         wrong = (
             ("sunk", went, stayed), ("climbed", went[:1], stayed), ("climbed", went + went[:1], stayed),
             ("climbed", ((0, 3), (1, 4)), stayed), ("climbed", ((0, 4), (1, 3)), stayed), ("climbed", went, stayed[:1]),
-            ("climbed", went, stayed + stayed[:1]), ("climbed", went, ((2, 3), (3, 3))), ("climbed", went, ((2, 4), (3, 4))),
+            ("climbed", went, stayed + stayed[:1]), ("climbed", went, ((2, 3), (3, 3))),
+            ("climbed", went, ((2, 4), (3, 4))),
             ("climbed", went + ((2, 4),), ((3, 3),)), ("climbed", went[:1], ((1, 3), (2, 4), (3, 3))),
             ("climbed", list(went), stayed), ("climbed", went, list(stayed)), ("climbed", ([0, 3], [1, 3]), stayed),
             ("climbed", went, ([2, 4], [3, 3])), ("climbed", ((0, 3), (True, 3)), stayed), ["climbed", went, stayed],
             ("climbed", ((0, 3, 3), (1, 3)), stayed), ("climbed", went, ((2, 4), (3,))), ("climbed", went, stayed, ()),
             ("climbed", went), ("climbed", ((0, 3.0), (1, 3)), stayed), ("climbed", ((0, None), (1, 3)), stayed),
             ("climbed", went, ((2, 4), (4, 3))), ("climbed", went, ((2, 4), (-1, 3))), ("climbed", went, None),
-            ("climbed", None, stayed), (None, went, stayed), (b"climbed", went, stayed), ("Climbed", went, stayed), (), went)
+            ("climbed", None, stayed), (None, went, stayed), (b"climbed", went, stayed), ("Climbed", went, stayed),
+            (), went)
         words = [(word, went, stayed) for word in NO_WORDS]
         pulls = [("climbed", ((0, word), (1, 3)), stayed) for word in NO_WORDS]
         for paper in (*wrong, *words, *pulls, *STRANGE):
