@@ -17,10 +17,10 @@ BARRED = {"register", "mro", "elements", "open", "input", "law", "help", "id", "
 NODES = (
     ast.Module, ast.Expr, ast.Constant, ast.ImportFrom, ast.alias, ast.FunctionDef, ast.arguments, ast.arg,
     ast.ClassDef, ast.Return, ast.If, ast.For, ast.While, ast.Raise, ast.Assign, ast.AugAssign, ast.Name, ast.Load,
-    ast.Store, ast.Attribute, ast.Call, ast.keyword, ast.Compare, ast.BoolOp, ast.And, ast.Or, ast.UnaryOp, ast.Not, ast.USub,
-    ast.BinOp, ast.Add, ast.Sub, ast.Mult, ast.Eq, ast.NotEq, ast.Lt, ast.LtE, ast.Gt, ast.GtE, ast.Is, ast.IsNot,
-    ast.In, ast.NotIn, ast.IfExp, ast.Tuple, ast.List, ast.Dict, ast.ListComp, ast.DictComp, ast.comprehension,
-    ast.Subscript, ast.Slice, ast.Starred, ast.JoinedStr, ast.FormattedValue)
+    ast.Store, ast.Attribute, ast.Call, ast.keyword, ast.Compare, ast.BoolOp, ast.And, ast.Or, ast.UnaryOp, ast.Not,
+    ast.USub, ast.BinOp, ast.Add, ast.Sub, ast.Mult, ast.Eq, ast.NotEq, ast.Lt, ast.LtE, ast.Gt, ast.GtE, ast.Is,
+    ast.IsNot, ast.In, ast.NotIn, ast.IfExp, ast.Tuple, ast.List, ast.Dict, ast.ListComp, ast.DictComp,
+    ast.comprehension, ast.Subscript, ast.Slice, ast.Starred, ast.JoinedStr, ast.FormattedValue)
 
 
 def tree_of(path):
