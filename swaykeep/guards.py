@@ -33,6 +33,11 @@ def is_rising_below(thing, many):
     return is_rising(thing) and (len(thing) == 0 or thing[-1] < many)
 
 
+def are_whole(thing):
+    """Whether a thing is a list of whole numbers."""
+    return isinstance(thing, list) and all([is_whole(part) for part in thing])
+
+
 def is_order(house, thing):
     """Whether a thing is a tuple of all numbers of a house's latches, each once."""
     if not isinstance(thing, tuple) or not all([is_whole(latch) for latch in thing]):
@@ -76,10 +81,17 @@ def check_order(house, order):
         raise NoOrder(order)
 
 
-def check_history(history):
-    """Refuse a history that is empty, or in which something is no swell."""
-    if not isinstance(history, (list, tuple)) or len(history) == 0:
+def check_swells(history):
+    """Refuse a history in which something is no swell; an empty one is let through."""
+    if not isinstance(history, (list, tuple)):
         raise NoHistory(0)
     for place, swell in enumerate(history):
         if not is_whole(swell):
             raise NoHistory(place)
+
+
+def check_history(history):
+    """Refuse a history that is empty, or in which something is no swell."""
+    check_swells(history)
+    if len(history) == 0:
+        raise NoHistory(0)

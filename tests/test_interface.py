@@ -34,6 +34,14 @@ FUNCTIONS = {
         "going": "(house, stand, swell, latch)", "fall_paper": "(house, stand, swell, *, up=True)",
         "going_paper": "(house, stand, swell, latch)", "floor": "(house)", "roof": "(house)"},
     "judge_falls": {"fall_holds": "(house, paper)", "going_holds": "(house, stand, swell, paper)"},
+    "residues": {
+        "turns": "(history, *, ahead=None)", "residue": "(history, *, ahead=None)", "waist": "(history)",
+        "taking_out": "(history, *, ahead=None)", "are_alike": "(one, other, *, ahead=None)",
+        "parting": "(one, other)"},
+    "judge_residues": {
+        "residue_shows": "(history, places, told, *, ahead=None)", "parting_shows": "(one, other, latch)"},
+    "least": {"bare": "(house, stand, history)"},
+    "mends": {"kind_of_mend": "(old, new)", "mended": "(old, new, swell, stand)"},
 }
 
 CLASSES = {
