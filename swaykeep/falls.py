@@ -46,11 +46,26 @@ def is_on_way(fall, end, up):
     return fall[0] <= end if up else fall[0] >= end
 
 
+def falls_of(house, stand, start, end):
+    """The falls of a leg, of things that are looked at before."""
+    up = end >= start
+    return [fall for fall in branch_of(house, stand, up) if is_on_way(fall, end, up)]
+
+
+def fall_papers(house, stand, start, end):
+    """The papers of the falls of a leg, in order, of things that are looked at before."""
+    up = end >= start
+    papers = []
+    for swell, latches in falls_of(house, stand, start, end):
+        papers.append(("fall", way_of(up), stand, swell, rounds_of(house, stand, swell, up)))
+        stand = gone(stand, latches, up)
+    return papers
+
+
 def falls(house, stand, start, end):
     """The falls (swell, latches) of a leg, in the order of the way."""
     check_leg(house, stand, start, end)
-    up = end >= start
-    return [fall for fall in branch_of(house, stand, up) if is_on_way(fall, end, up)]
+    return falls_of(house, stand, start, end)
 
 
 def rounds(house, stand, swell, *, up=True):

@@ -5,6 +5,8 @@ A house is asked here only for its length, so that the file of houses can rest o
 
 from swaykeep.errors import NoHistory, NoLatch, NoOrder, NoStand, NoSwell
 
+MOST_LETTERS = 8
+
 
 def is_whole(thing):
     """Whether a thing is a whole number: an int that is no truth."""
@@ -36,6 +38,13 @@ def is_rising_below(thing, many):
 def are_whole(thing):
     """Whether a thing is a list of whole numbers."""
     return isinstance(thing, list) and all([is_whole(part) for part in thing])
+
+
+def is_name(thing):
+    """Whether a thing is a name: a text of one to eight small letters."""
+    if not isinstance(thing, str) or len(thing) > MOST_LETTERS:
+        return False
+    return thing.isascii() and thing.isalpha() and thing.islower()
 
 
 def is_order(house, thing):

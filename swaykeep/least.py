@@ -1,8 +1,7 @@
 """The bare history: what is left of a history where nothing that moves no latch, or leads back, is kept."""
 
 from swaykeep.falls import branch_of, is_on_way
-from swaykeep.guards import check_history, check_stand
-from swaykeep.pulls import check_settled
+from swaykeep.legs import check_led
 from swaykeep.residues import residue_of
 from swaykeep.settling import gone
 
@@ -40,9 +39,7 @@ def without_return(swells, stands):
 
 def bare(house, stand, history):
     """The history bared, by rounds, until one changes nothing."""
-    check_stand(house, stand)
-    check_history(history)
-    check_settled(house, stand, history[0])
+    check_led(house, stand, history)
     branches = {}
     left = []
     following = list(history)

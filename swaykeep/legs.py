@@ -24,6 +24,13 @@ def check_leg(house, stand, start, end):
     check_settled(house, stand, start)
 
 
+def check_led(house, stand, history):
+    """Refuse what is not led along a history."""
+    check_stand(house, stand)
+    check_history(history)
+    check_settled(house, stand, history[0])
+
+
 def leg(house, stand, start, end):
     """The stand to which one that is settled at the start is led at the end."""
     check_leg(house, stand, start, end)
@@ -32,9 +39,7 @@ def leg(house, stand, start, end):
 
 def led(house, stand, history):
     """The stands at each swell of a history, the first one too."""
-    check_stand(house, stand)
-    check_history(history)
-    check_settled(house, stand, history[0])
+    check_led(house, stand, history)
     stands = [stand]
     for start, end in zip(history, history[1:]):
         stands.append(carried(house, stands[-1], start, end))

@@ -10,8 +10,11 @@ FILES = sorted(path for path in PACKAGE.rglob("*") if "__pycache__" not in path.
 
 # the builtins that the package uses, all of them allowed
 BUILTINS = {"abs", "all", "any", "enumerate", "int", "isinstance", "len", "list", "max", "min", "range", "sorted",
-            "str", "sum", "tuple", "zip", "bool", "ValueError"}
-METHODS = {"append", "extend", "get", "index", "isascii", "isdigit", "join", "pop", "split", "startswith"}
+            "str", "sum", "tuple", "dict", "zip", "bool", "ValueError"}
+METHODS = {"append", "extend", "get", "index", "isalpha", "isascii", "isdigit", "islower", "items", "join", "pop",
+           "split", "startswith"}
+# what the interface names so: a parameter with the name of a function of its file
+NAMED_SO = {("swings", "goings")}
 BARRED = {"register", "mro", "elements", "open", "input", "law", "help", "id", "vars", "dir", "type", "super", "exit",
           "hash", "next", "iter", "format"}
 NODES = (
@@ -21,7 +24,7 @@ NODES = (
     ast.USub, ast.BinOp, ast.Add, ast.Sub, ast.Mult, ast.Eq, ast.NotEq, ast.Lt, ast.LtE, ast.Gt, ast.GtE, ast.Is,
     ast.IsNot, ast.In, ast.NotIn, ast.IfExp, ast.Tuple, ast.List, ast.Dict, ast.ListComp, ast.DictComp,
     ast.comprehension, ast.Subscript, ast.Slice, ast.Starred, ast.JoinedStr, ast.FormattedValue, ast.Mod, ast.Delete,
-    ast.Del)
+    ast.Del, ast.Break)
 
 
 def tree_of(path):
@@ -97,7 +100,7 @@ class FormTest(unittest.TestCase):
                 if told is not None:
                     self.assertNotIn(told, fixed | BARRED, path.name)
                     self.assertFalse(hasattr(builtins, told), (path.name, told))
-                    self.assertNotIn(told, defined, path.name)
+                    self.assertTrue(told not in defined or (path.stem, told) in NAMED_SO, (path.name, told))
                 if isinstance(node, ast.FunctionDef):
                     self.assertNotIn(node.name, BARRED)
                     self.assertTrue(node.name.startswith("__") or not hasattr(builtins, node.name), node.name)

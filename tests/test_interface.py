@@ -42,6 +42,16 @@ FUNCTIONS = {
         "residue_shows": "(history, places, told, *, ahead=None)", "parting_shows": "(one, other, latch)"},
     "least": {"bare": "(house, stand, history)"},
     "mends": {"kind_of_mend": "(old, new)", "mended": "(old, new, swell, stand)"},
+    "ktexts": {"show_keeper": "(keeper)", "read_keeper": "(text)"},
+    "swings": {
+        "goings": "(house, stand, history)", "work": "(goings)", "latch_turns": "(house, stand, start, far)",
+        "loss": "(house, stand, start, far)", "area": "(house, stand, start, far)",
+        "branches": "(house, stand, start, far)", "swing_paper": "(house, stand, start, far)"},
+    "judge_swings": {"swing_holds": "(house, stand, start, far, paper)"},
+    "ledger": {"ledger": "(house, stand, history)"},
+    "dips": {
+        "ends": "(house, stand)", "deepest_dip": "(house, stand)", "highest_peak": "(house, stand)",
+        "widening": "(house, stand, *, way='dip')"},
 }
 
 CLASSES = {
@@ -54,6 +64,17 @@ CLASSES = {
         "last_stand": "(self)", "from_swell": "(self)", "to_swell": "(self)", "goes": "(self)", "its_falls": "(self)",
         "went": "(self)", "stand_at": "(self, swell)", "cut_at": "(self, swell)", "joined_with": "(self, leg)",
         "turned_round": "(self)", "__eq__": "(self, other)", "__len__": "(self)", "__repr__": "(self)"},
+    ("keepers", "Keeper"): {
+        "__init__": "(self, house, swell, *, stand=())", "to": "(self, swell)",
+        "through": "(self, history, *, times=1)", "house_now": "(self)", "stand_now": "(self)", "swell_now": "(self)",
+        "base": "(self)", "residue": "(self)", "forget": "(self)", "mark": "(self, name)", "back": "(self, name)",
+        "marks": "(self)", "undo": "(self)", "mend": "(self, house)", "twin": "(self)", "__eq__": "(self, other)",
+        "__len__": "(self)", "__repr__": "(self)"},
+    ("ledger", "Ledger"): {
+        "__init__": "(self, house, stand, swell)", "to": "(self, swell)", "through": "(self, history, *, times=1)",
+        "house_now": "(self)", "stand_now": "(self)", "swell_now": "(self)", "rest": "(self)", "rows": "(self)",
+        "loss": "(self)", "work": "(self)", "turned": "(self, latch)", "last": "(self, latch)",
+        "__eq__": "(self, other)", "__len__": "(self)", "__repr__": "(self)"},
 }
 
 
