@@ -3,8 +3,8 @@
 from swaykeep.errors import NoFall
 from swaykeep.guards import check_latch, check_moment, check_stand
 from swaykeep.legs import check_leg, check_start
-from swaykeep.pulls import check_settled, limits
-from swaykeep.settling import gone, waves_of
+from swaykeep.pulls import check_settled, level_of, waiting_of
+from swaykeep.settling import gone, waves_at, waves_of
 
 
 def way_of(up):
@@ -17,28 +17,38 @@ def rounds_of(house, stand, swell, up):
     return [tuple(wave) for wave in waves_of(house, stand, swell, up)]
 
 
+def together(waves):
+    """The rising tuple of all latches of waves."""
+    return tuple(sorted([latch for wave in waves for latch in wave]))
+
+
 def first_fall(house, stand, up):
-    """The first fall that a settled stand has that way, or None: just beyond its span the first latch goes."""
-    low, high = limits(house, stand)
-    last = high if up else low
-    if last is None:
+    """The first fall that a settled stand has that way, or None: the least need tells its level."""
+    waiting = waiting_of(house, stand, up)
+    if not waiting:
         return None
-    swell = last + 1 if up else last - 1
-    latches = []
-    for wave in waves_of(house, stand, swell, up):
-        latches.extend(wave)
-    return swell, tuple(sorted(latches))
+    level = min(waiting)[0]
+    waves, _ = waves_at(house, waiting, level)
+    return level_of(level, up), together(waves)
+
+
+def steps_of(house, stand, up, last):
+    """The tuples (swell, waves) of the falls that a settled stand has that way, up to the last level (None: all)."""
+    steps = []
+    waiting = waiting_of(house, stand, up)
+    while waiting:
+        level = min(waiting)[0]
+        if last is not None and level > last:
+            break
+        waves, waiting = waves_at(house, waiting, level)
+        # a level is told as a swell just as a swell as a level
+        steps.append((level_of(level, up), waves))
+    return steps
 
 
 def branch_of(house, stand, up):
     """All falls that a settled stand has that way."""
-    found = []
-    fall = first_fall(house, stand, up)
-    while fall is not None:
-        found.append(fall)
-        stand = gone(stand, fall[1], up)
-        fall = first_fall(house, stand, up)
-    return found
+    return [(swell, together(waves)) for swell, waves in steps_of(house, stand, up, None)]
 
 
 def is_on_way(fall, end, up):
@@ -49,16 +59,16 @@ def is_on_way(fall, end, up):
 def falls_of(house, stand, start, end):
     """The falls of a leg, of things that are looked at before."""
     up = end >= start
-    return [fall for fall in branch_of(house, stand, up) if is_on_way(fall, end, up)]
+    return [(swell, together(waves)) for swell, waves in steps_of(house, stand, up, level_of(end, up))]
 
 
 def fall_papers(house, stand, start, end):
     """The papers of the falls of a leg, in order, of things that are looked at before."""
     up = end >= start
     papers = []
-    for swell, latches in falls_of(house, stand, start, end):
-        papers.append(("fall", way_of(up), stand, swell, rounds_of(house, stand, swell, up)))
-        stand = gone(stand, latches, up)
+    for swell, waves in steps_of(house, stand, up, level_of(end, up)):
+        papers.append(("fall", way_of(up), stand, swell, [tuple(wave) for wave in waves]))
+        stand = gone(stand, together(waves), up)
     return papers
 
 

@@ -24,7 +24,7 @@ def is_rising(thing):
         return False
     last = -1
     for latch in thing:
-        if not is_whole(latch) or latch <= last:
+        if not isinstance(latch, int) or latch is True or latch is False or latch <= last:
             return False
         last = latch
     return True

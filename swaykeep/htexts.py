@@ -4,8 +4,18 @@ from swaykeep.errors import NoText
 from swaykeep.guards import check_rising, is_rising
 from swaykeep.houses import House
 
-# the word of each kind of row, and how many numbers stand behind it
-ROWS = (("latch", 2), ("help", 3))
+# more figures than int reads at once on every machine
+MOST_FIGURES = 600
+
+
+def number_of(figures):
+    """The number of figures, however many."""
+    if len(figures) <= MOST_FIGURES:
+        return int(figures)
+    number = 0
+    for figure in figures:
+        number = number * 10 + int(figure)
+    return number
 
 
 def read_number(word):
@@ -15,10 +25,7 @@ def read_number(word):
         return None
     if figures.startswith("0") and word != "0":
         return None
-    number = 0
-    for figure in figures:
-        number = number * 10 + int(figure)
-    return -number if word.startswith("-") else number
+    return -number_of(figures) if word.startswith("-") else number_of(figures)
 
 
 def read_numbers(words):
@@ -27,13 +34,30 @@ def read_numbers(words):
     return None if None in numbers else numbers
 
 
-def read_row(row):
-    """The word of a row and the tuple of its numbers, or None where it is no row of a house."""
-    words = row.split(" ")
-    numbers = read_numbers(words[1:])
-    if numbers is None or (words[0], len(numbers)) not in ROWS:
+def read_rows(rows, word, many):
+    """The tuples of so many numbers that stand behind the word of each row, or None where one is no such row.
+
+    Most words of a house's rows come again and again, so each word is read once.
+    """
+    words = " ".join(rows).split(" ")
+    if [row.count(" ") for row in rows] != [many] * len(rows) or words[::many + 1].count(word) != len(rows):
         return None
-    return words[0], numbers
+    known = {one: read_number(one) for one in sorted(set(words))}
+    columns = [[known[one] for one in words[place::many + 1]] for place in range(1, many + 1)]
+    if any([None in column for column in columns]):
+        return None
+    return list(zip(*columns))
+
+
+def first_wrong(rows):
+    """The number, from 1, of the first row that is none of a house, or a latch behind a help."""
+    helping = False
+    for at, row in enumerate(rows, start=1):
+        if read_rows([row], "help", 3) is not None:
+            helping = True
+        elif helping or read_rows([row], "latch", 2) is None:
+            return at
+    return len(rows) + 1
 
 
 def show_house(house):
@@ -56,19 +80,13 @@ def read_house(text):
     if not isinstance(text, str):
         raise NoText(1)
     rows = text.split("\n")
-    latches = []
-    helps = []
-    for at, row in enumerate(rows[:-1], start=1):
-        told = read_row(row)
-        if told is None or (told[0] == "latch" and helps):
-            raise NoText(at)
-        if told[0] == "latch":
-            latches.append(told[1])
-        else:
-            helps.append(told[1])
     # what stands behind the last line end is a row without its own
-    if rows[-1] != "":
-        raise NoText(len(rows))
+    last = rows.pop()
+    many = len([row for row in rows if row.startswith("latch ")])
+    latches = read_rows(rows[:many], "latch", 2)
+    helps = read_rows(rows[many:], "help", 3)
+    if latches is None or helps is None or last != "":
+        raise NoText(first_wrong(rows))
     return House(tuple(latches), tuple(helps))
 
 

@@ -2,7 +2,7 @@
 
 from swaykeep.guards import check_moment, is_latch, is_whole
 from swaykeep.houses import is_stand
-from swaykeep.pulls import lent_in, movable, would_go
+from swaykeep.pulls import lent_in
 from swaykeep.settling import gone
 
 
@@ -29,17 +29,18 @@ def is_settling_paper(house, thing):
     return are_pulled(house, went) and are_pulled(house, stayed)
 
 
-def are_pulls(house, stand, swell, rows):
-    """Whether each pull that is told of a latch is the one that it has."""
-    return all([pulled == swell + lent_in(house, stand, latch) for latch, pulled in rows])
+def wants_to_go(house, latch, pulled, up):
+    """Whether a latch that is so pulled wants to go that way."""
+    _, _, up_at, down_at = house.marks()[latch]
+    return pulled >= up_at if up else pulled <= down_at
 
 
 def behind(house, stand, swell, went, up):
     """The stand behind latches that went in a row, or None where one could not go as told."""
     for latch, pulled in went:
-        if (latch in stand) == up or not are_pulls(house, stand, swell, [(latch, pulled)]):
+        if (latch in stand) == up or pulled != swell + lent_in(house, stand, latch):
             return None
-        if not would_go(house, stand, swell, latch, up):
+        if not wants_to_go(house, latch, pulled, up):
             return None
         stand = gone(stand, [latch], up)
     return stand
@@ -47,11 +48,12 @@ def behind(house, stand, swell, went, up):
 
 def all_stay(house, stand, swell, stayed, up):
     """Whether told are just the latches that could go that way, with their pulls, and none wants to."""
-    if sorted([latch for latch, _ in stayed]) != movable(house, stand, up):
+    if sorted([latch for latch, _ in stayed]) != [latch for latch in range(len(house)) if (latch in stand) != up]:
         return False
-    if not are_pulls(house, stand, swell, stayed):
-        return False
-    return not any([would_go(house, stand, swell, latch, up) for latch, _ in stayed])
+    for latch, pulled in stayed:
+        if pulled != swell + lent_in(house, stand, latch) or wants_to_go(house, latch, pulled, up):
+            return False
+    return True
 
 
 def settling_shows(house, stand, swell, end, paper):

@@ -58,22 +58,29 @@ def bears(house, stand, swell, far):
     return there_again[1] == stand
 
 
+def has_all(stand, latches):
+    """Whether all of some latches are up in a stand."""
+    return all([latch in stand for latch in latches])
+
+
 def is_within(one, other):
     """Whether each latch that is up in the one stand is up in the other one."""
     check_rising(one)
     check_rising(other)
-    return all([latch in other for latch in one])
+    return has_all(other, one)
 
 
 def helped_no_less(house, other):
     """Whether the other house is helped no less than this one."""
     if len(house) != len(other):
         return False
-    for latch in range(len(house)):
-        if other.up_at(latch) > house.up_at(latch) or other.down_at(latch) > house.down_at(latch):
+    for (up, down), (other_up, other_down) in zip(house.latches(), other.latches()):
+        if other_up > up or other_down > down:
             return False
-    lent = {(one, two): many for one, two, many in other.helps()}
-    return all([lent.get((one, two), 0) >= many for one, two, many in house.helps()])
+    for row, other_row in zip(house.rows(), other.rows()):
+        if row != other_row and any([other_many < many for many, other_many in zip(row, other_row)]):
+            return False
+    return True
 
 
 def passing(house, stand, history, other, other_stand, other_history):
@@ -83,6 +90,6 @@ def passing(house, stand, history, other, other_stand, other_history):
     if len(stands) != len(other_stands):
         raise NoHistory(min(len(stands), len(other_stands)))
     for place, (one, two) in enumerate(zip(stands, other_stands)):
-        if not is_within(one, two):
+        if not has_all(two, one):
             return place
     return None

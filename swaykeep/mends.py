@@ -22,8 +22,7 @@ def gets_worse(old, new, latch):
     """Whether a number of a latch is greater in the new house, or another one lends it less there."""
     if new.up_at(latch) > old.up_at(latch) or new.down_at(latch) > old.down_at(latch):
         return True
-    lent = {one: many for one, many in new.lenders(latch)}
-    return any([lent.get(one, 0) < many for one, many in old.lenders(latch)])
+    return any([new_row[latch] < row[latch] for row, new_row in zip(old.rows(), new.rows())])
 
 
 def mended(old, new, swell, stand):

@@ -1,11 +1,11 @@
 """Climbing and sinking at a swell, their rows, waves and papers, and the stands that are settled there.
 
-gone, waves_of, end_of and row_of refuse nothing: what they are handed is looked at before.
+The functions above looked_at_row refuse nothing: what they are handed is looked at before.
 """
 
 from swaykeep.errors import TooMany
 from swaykeep.guards import check_moment, check_order, check_stand, check_swell
-from swaykeep.pulls import check_settled, lent_in, movable, rests, wanting
+from swaykeep.pulls import check_settled, eased, lent_to_all, level_of, rests_by, waiting_of
 
 MOST_LATCHES_OF_ALL_STANDS = 10
 
@@ -17,34 +17,54 @@ def gone(stand, latches, up):
     return tuple([latch for latch in stand if latch not in latches])
 
 
-def waves_of(house, stand, swell, up):
-    """The rising lists of latches that go at once, again and again."""
+def waves_at(house, waiting, level):
+    """The rising lists of those that wait and go at once at a level, again and again, and what is left waiting."""
     waves = []
-    going = wanting(house, stand, swell, up)
+    going = [latch for need, latch in waiting if need <= level]
     while going:
         waves.append(going)
-        stand = gone(stand, going, up)
-        going = wanting(house, stand, swell, up)
+        waiting = eased(house, waiting, going) if len(going) < len(waiting) else []
+        going = [latch for need, latch in waiting if need <= level]
+    return waves, waiting
+
+
+def waves_of(house, stand, swell, up):
+    """The rising lists of latches that go at once, again and again."""
+    waves, _ = waves_at(house, waiting_of(house, stand, up), level_of(swell, up))
     return waves
 
 
 def end_of(house, stand, swell, up):
     """The stand in which none wants to go that way any more."""
-    for wave in waves_of(house, stand, swell, up):
-        stand = gone(stand, wave, up)
-    return tuple(stand)
+    waves, waiting = waves_at(house, waiting_of(house, stand, up), level_of(swell, up))
+    if not up:
+        return tuple([latch for _, latch in waiting])
+    return gone(stand, [latch for wave in waves for latch in wave], True)
 
 
 def row_of(house, stand, swell, order, up):
-    """The latches in the row in which they go, the first one in the order that wants each time."""
+    """The pairs (need, latch) in the row in which they go, the first one in the order that wants each time.
+
+    Told with what is left waiting, by the order.
+    """
+    level = level_of(swell, up)
+    needs = {latch: need for need, latch in waiting_of(house, stand, up)}
+    waiting = [(needs[latch], latch) for latch in order if latch in needs]
     row = []
-    going = wanting(house, stand, swell, up)
+    going = [pair for pair in waiting if pair[0] <= level]
     while going:
-        first = [latch for latch in order if latch in going][0]
-        row.append(first)
-        stand = gone(stand, [first], up)
-        going = wanting(house, stand, swell, up)
-    return row
+        row.append(going[0])
+        waiting = eased(house, waiting, [going[0][1]])
+        going = [pair for pair in waiting if pair[0] <= level]
+    return row, waiting
+
+
+def with_pulls(house, pairs, swell, up):
+    """The tuples (latch, pull) of pairs (need, latch)."""
+    marks = house.marks()
+    if up:
+        return tuple([(latch, swell + marks[latch][2] - need) for need, latch in pairs])
+    return tuple([(latch, swell + marks[latch][3] + need) for need, latch in pairs])
 
 
 def looked_at_row(house, stand, swell, order, up):
@@ -53,17 +73,15 @@ def looked_at_row(house, stand, swell, order, up):
     if order is None:
         order = tuple(range(len(house)))
     check_order(house, order)
-    return row_of(house, stand, swell, order, up)
+    row, _ = row_of(house, stand, swell, order, up)
+    return [latch for _, latch in row]
 
 
 def paper_of(word, house, stand, swell, up):
     """The paper of latches that went and stayed, with the pull of each."""
-    went = []
-    for latch in looked_at_row(house, stand, swell, None, up):
-        went.append((latch, swell + lent_in(house, stand, latch)))
-        stand = gone(stand, [latch], up)
-    stayed = [(latch, swell + lent_in(house, stand, latch)) for latch in movable(house, stand, up)]
-    return word, tuple(went), tuple(stayed)
+    check_moment(house, stand, swell)
+    row, waiting = row_of(house, stand, swell, range(len(house)), up)
+    return word, with_pulls(house, row, swell, up), with_pulls(house, waiting, swell, up)
 
 
 def climbed(house, stand, swell):
@@ -158,7 +176,11 @@ def settled_at(house, swell):
     check_swell(swell)
     if len(house) > MOST_LATCHES_OF_ALL_STANDS:
         raise TooMany(MOST_LATCHES_OF_ALL_STANDS)
-    stands = [()]
-    for latch in range(len(house)):
-        stands = stands + [(*stand, latch) for stand in stands]
-    return sorted([stand for stand in stands if rests(house, stand, swell)])
+    # each of them has the least one, and stands within the greatest one
+    least = end_of(house, (), swell, True)
+    greatest = end_of(house, tuple(range(len(house))), swell, False)
+    numbers = house.numbers()
+    stands = [(least, lent_to_all(house, least))]
+    for latch in gone(greatest, least, False):
+        stands = stands + [((*stand, latch), lent + numbers[latch]) for stand, lent in stands]
+    return sorted([tuple(sorted(stand)) for stand, lent in stands if rests_by(house, stand, lent, swell)])

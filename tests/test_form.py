@@ -9,9 +9,9 @@ PACKAGE = pathlib.Path(__file__).resolve().parent.parent / "swaykeep"
 FILES = sorted(path for path in PACKAGE.rglob("*") if "__pycache__" not in path.parts)
 
 # the builtins that the package uses, all of them allowed
-BUILTINS = {"abs", "all", "any", "enumerate", "int", "isinstance", "len", "list", "max", "min", "range", "sorted",
-            "str", "sum", "tuple", "dict", "zip", "bool", "ValueError"}
-METHODS = {"append", "extend", "get", "index", "isalpha", "isascii", "isdigit", "islower", "items", "join", "pop",
+BUILTINS = {"abs", "all", "any", "enumerate", "int", "isinstance", "len", "list", "max", "min", "range", "set", "sorted",
+            "str", "sum", "tuple", "dict", "reversed", "zip", "bool", "ValueError"}
+METHODS = {"append", "count", "extend", "get", "index", "isalpha", "isascii", "isdigit", "islower", "items", "join", "pop",
            "split", "startswith"}
 # what the interface names so: a parameter with the name of a function of its file
 NAMED_SO = {("swings", "goings")}
@@ -24,7 +24,7 @@ NODES = (
     ast.USub, ast.BinOp, ast.Add, ast.Sub, ast.Mult, ast.Eq, ast.NotEq, ast.Lt, ast.LtE, ast.Gt, ast.GtE, ast.Is,
     ast.IsNot, ast.In, ast.NotIn, ast.IfExp, ast.Tuple, ast.List, ast.Dict, ast.ListComp, ast.DictComp,
     ast.comprehension, ast.Subscript, ast.Slice, ast.Starred, ast.JoinedStr, ast.FormattedValue, ast.Mod, ast.Delete,
-    ast.Del, ast.Break)
+    ast.Del, ast.Break, ast.LShift, ast.RShift, ast.BitAnd)
 
 
 def tree_of(path):
@@ -73,7 +73,9 @@ class FormTest(unittest.TestCase):
                 package, module = node.module.split(".")
                 self.assertEqual(("swaykeep", 0), (package, node.level))
                 resting.setdefault(path.stem, []).append(module)
-                defined = [getattr(row, "name", None) for row in tree_of(PACKAGE / f"{module}.py").body]
+                body = tree_of(PACKAGE / f"{module}.py").body
+                defined = [getattr(row, "name", None) for row in body]
+                defined.extend(row.targets[0].id for row in body if isinstance(row, ast.Assign))
                 for name in node.names:
                     self.assertIn(name.name, defined)
                     self.assertIsNone(name.asname)
