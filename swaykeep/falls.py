@@ -51,11 +51,6 @@ def branch_of(house, stand, up):
     return [(swell, together(waves)) for swell, waves in steps_of(house, stand, up, None)]
 
 
-def is_on_way(fall, end, up):
-    """Whether a fall of a branch is reached by a leg to an end."""
-    return fall[0] <= end if up else fall[0] >= end
-
-
 def falls_of(house, stand, start, end):
     """The falls of a leg, of things that are looked at before."""
     up = end >= start

@@ -14,7 +14,7 @@ def residue_shows(history, places, told, *, ahead=None):
     left = turns_of([*first, *history])
     for place in places:
         at = place + len(first)
-        if place < 0 or not is_inner(left, at):
+        if not is_inner(left, at):
             return False
         del left[at:at + 2]
     return left[len(first):] == told and not any([is_inner(left, at) for at in range(len(left))])

@@ -10,7 +10,7 @@ from swaykeep.residues import residue_of
 
 def show_row(word, numbers):
     """A row of a word and of numbers, with its end."""
-    return " ".join([word, *[str(number) for number in numbers]]) + "\n"
+    return " ".join([word] + [str(number) for number in numbers]) + "\n"
 
 
 def show_keeper(keeper):

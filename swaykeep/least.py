@@ -1,9 +1,14 @@
 """The bare history: what is left of a history where nothing that moves no latch, or leads back, is kept."""
 
-from swaykeep.falls import branch_of, is_on_way
+from swaykeep.falls import branch_of
 from swaykeep.legs import check_led
 from swaykeep.residues import residue_of
 from swaykeep.settling import gone
+
+
+def is_on_way(fall, end, up):
+    """Whether a fall of a branch is reached by a leg to an end."""
+    return fall[0] <= end if up else fall[0] >= end
 
 
 def falls_to(house, stand, end, up, branches):

@@ -30,7 +30,7 @@ class Ledger:
         went = leg_goings(self._house, stand, start, swell)
         stand = gone(stand, [latch for latch, _, _ in went], swell >= start)
         turn_to(self._left, swell)
-        self._stands = [*self._stands[:len(self._left) - 1], stand]
+        self._stands = self._stands[:len(self._left) - 1] + [stand]
         return self._take_out(), went
 
     def _take_out(self):
@@ -69,14 +69,14 @@ class Ledger:
         """Lead it through a history so many times over; told is its stand."""
         check_history(history)
         # from the second time on each time closes and moves the same
-        for each in (1, times - 1)[:min(times, 2)]:
+        for past in range(min(times, 2)):
             closed = []
             went = []
             for swell in history:
                 swings, moves = self._go(swell)
                 closed.extend(swings)
                 went.extend(moves)
-            self._note(closed, went, each)
+            self._note(closed, went, times - 1 if past else 1)
         return self.stand_now()
 
     def house_now(self):

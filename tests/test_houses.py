@@ -77,7 +77,7 @@ class HouseTest(Refusals, unittest.TestCase):
             self.no_house("help", 0, ((1, 0), (1, 0)), (thing,))
             self.no_house("help", 1, ((1, 0), (1, 0)), ((1, 0, 9), thing, thing))
         for thing in NO_NUMBERS:
-            for lending in ((thing, 0, 1), (0, thing, 1), (0, 1, thing)):
+            for lending in ((thing, 0, 1), (thing, 1, 1), (0, thing, 1), (1, thing, 1), (0, 1, thing)):
                 self.no_house("help", 0, ((1, 0), (1, 0)), (lending,))
 
     def test_help_of_one_and_of_nine(self):

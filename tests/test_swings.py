@@ -250,6 +250,16 @@ class JudgeTest(unittest.TestCase):
         # a fall at the start itself is none of the leg
         self.assertIs(False, swing_holds(HOUSE, (0,), 3, 2, ("swing", paper[1][:1], [], 3)))
 
+    def test_falls_of_another_stand(self):
+        # latch 0 goes alike whether latch 1 is up or down
+        house = House(((3, 1), (100, -100)))
+        there, back = [("fall", "up", (), 3, [(0,)])], [("fall", "down", (0,), 1, [(0,)])]
+        other_there, other_back = [("fall", "up", (1,), 3, [(0,)])], [("fall", "down", (0, 1), 1, [(0,)])]
+        for stand, one, other in (((), there, back), ((1,), other_there, other_back)):
+            self.assertIs(True, swing_holds(house, stand, 0, 5, ("swing", one, other, 2)))
+        for one, other in ((there, other_back), (other_there, back), (other_there, other_back)):
+            self.assertIs(False, swing_holds(house, (), 0, 5, ("swing", one, other, 2)))
+
     def test_of_a_swing_that_is_not_closed(self):
         there = [("fall", "up", (0,), 4, [(1,)])]
         back = [("fall", "down", (0, 1), 1, [(0, 1)])]
