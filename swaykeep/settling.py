@@ -80,7 +80,7 @@ def looked_at_row(house, stand, swell, order, up):
 def paper_of(word, house, stand, swell, up):
     """The paper of latches that went and stayed, with the pull of each."""
     check_moment(house, stand, swell)
-    row, waiting = row_of(house, stand, swell, range(len(house)), up)
+    row, waiting = row_of(house, stand, swell, tuple(range(len(house))), up)
     return word, with_pulls(house, row, swell, up), with_pulls(house, waiting, swell, up)
 
 

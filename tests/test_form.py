@@ -9,10 +9,10 @@ PACKAGE = pathlib.Path(__file__).resolve().parent.parent / "swaykeep"
 FILES = sorted(path for path in PACKAGE.rglob("*") if "__pycache__" not in path.parts)
 
 # the builtins that the package uses, all of them allowed
-BUILTINS = {"abs", "all", "any", "enumerate", "int", "isinstance", "len", "list", "max", "min", "range", "set", "sorted",
-            "str", "sum", "tuple", "dict", "reversed", "zip", "bool", "ValueError"}
-METHODS = {"append", "count", "extend", "get", "index", "isalpha", "isascii", "isdigit", "islower", "items", "join", "pop",
-           "split", "startswith"}
+BUILTINS = {"abs", "all", "any", "bool", "dict", "enumerate", "int", "isinstance", "len", "list", "max", "min", "range",
+            "reversed", "set", "sorted", "str", "sum", "tuple", "zip", "ValueError"}
+METHODS = {"append", "count", "extend", "get", "index", "isalpha", "isascii", "isdigit", "islower", "items", "join",
+           "pop", "split", "startswith"}
 # what the interface names so: a parameter with the name of a function of its file
 NAMED_SO = {("swings", "goings")}
 BARRED = {"register", "mro", "elements", "open", "input", "law", "help", "id", "vars", "dir", "type", "super", "exit",
@@ -116,6 +116,22 @@ class FormTest(unittest.TestCase):
                     if hasattr(str, node.func.attr) or hasattr(list, node.func.attr) or hasattr(dict, node.func.attr):
                         self.assertIn(node.func.attr, METHODS, path.name)
                         self.assertEqual([], node.keywords)
+
+    def test_what_is_iterated_stands_where_it_is_iterated(self):
+        for path in FILES:
+            tree = tree_of(path)
+            places = []
+            for node in ast.walk(tree):
+                if isinstance(node, (ast.For, ast.comprehension)):
+                    places.append(node.iter)
+                if isinstance(node, ast.Call) and isinstance(node.func, ast.Name) and node.args:
+                    if node.func.id in ("list", "tuple", "sorted", "enumerate", "zip"):
+                        places.append(node.args[0])
+            for node in ast.walk(tree):
+                if isinstance(node, ast.Call):
+                    name = node.func.id if isinstance(node.func, ast.Name) else node.func.attr
+                    if name in ("range", "zip", "enumerate", "reversed", "set", "items", "keys", "values"):
+                        self.assertTrue(any(node is place for place in places), (path.name, node.lineno))
 
     def test_module_level(self):
         for path in FILES:
