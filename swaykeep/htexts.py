@@ -82,7 +82,8 @@ def read_house(text):
     rows = text.split("\n")
     # what stands behind the last line end is a row without its own
     last = rows.pop()
-    many = len([row for row in rows if row.startswith("latch ")])
+    head, _, _ = text.partition("help ")
+    many = head.count("\n")
     latches = read_rows(rows[:many], "latch", 2)
     helps = read_rows(rows[many:], "help", 3)
     if latches is None or helps is None or last != "":

@@ -5,6 +5,7 @@ The functions above looked_at_row refuse nothing: what they are handed is looked
 
 from swaykeep.errors import TooMany
 from swaykeep.guards import check_moment, check_order, check_stand, check_swell
+from swaykeep.houses import FIELD, FIELD_BITS
 from swaykeep.pulls import check_settled, eased, lent_to_all, level_of, rests_by, waiting_of
 
 MOST_LATCHES_OF_ALL_STANDS = 10
@@ -42,21 +43,32 @@ def end_of(house, stand, swell, up):
     return gone(stand, [latch for wave in waves for latch in wave], True)
 
 
+def first_going(waiting, lent, level):
+    """The place of the first one that waits and goes at a level, where so much more is lent to all; else None."""
+    for place, (need, latch) in enumerate(waiting):
+        if need - (lent >> latch * FIELD_BITS & FIELD) <= level:
+            return place
+    return None
+
+
 def row_of(house, stand, swell, order, up):
     """The pairs (need, latch) in the row in which they go, the first one in the order that wants each time.
 
-    Told with what is left waiting, by the order.
+    Told with what is left waiting, by the order; each need is that of the time when the latch goes, or of the end.
     """
     level = level_of(swell, up)
+    numbers = house.numbers()
     needs = {latch: need for need, latch in waiting_of(house, stand, up)}
     waiting = [(needs[latch], latch) for latch in order if latch in needs]
+    lent = 0
     row = []
-    going = [pair for pair in waiting if pair[0] <= level]
-    while going:
-        row.append(going[0])
-        waiting = eased(house, waiting, [going[0][1]])
-        going = [pair for pair in waiting if pair[0] <= level]
-    return row, waiting
+    place = first_going(waiting, lent, level)
+    while place is not None:
+        need, latch = waiting.pop(place)
+        row.append((need - (lent >> latch * FIELD_BITS & FIELD), latch))
+        lent = lent + numbers[latch]
+        place = first_going(waiting, lent, level)
+    return row, [(need - (lent >> latch * FIELD_BITS & FIELD), latch) for need, latch in waiting]
 
 
 def with_pulls(house, pairs, swell, up):
