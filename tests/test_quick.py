@@ -93,6 +93,8 @@ class AnswersTest(Refusals, unittest.TestCase):
         self.refused(NoText, {"at": 197}, lambda: read_house(TEXT + "help"))
         long = House(((int("9" * 700), -int("8" * 700)),))
         self.assertEqual(long, read_house(show_house(long)))
+        # more figures than int reads at once
+        self.assertEqual((10 ** 4400 - 1) // 9 * 7, read_house("latch " + "7" * 4400 + " 0\n").up_at(0))
 
     def test_settling_and_legs(self):
         self.assertEqual(list(EVERY), climb_row(GREAT, (), 100000))
