@@ -134,6 +134,62 @@ def slow_falls(house, stand, start, end):
     return found, stand
 
 
+def slow_swells(house):
+    """All whole swells from one at which none is up to one at which all are."""
+    most = max(sum(many for _, other, many in house.helps() if other == latch) for latch in all_of(house))
+    return range(min(down for _, down in house.latches()) - most, max(up for up, _ in house.latches()) + 1)
+
+
+def slow_chain(house, stand, up):
+    """The stands behind each fall of a leg led on and on, swell by swell; None of one that is settled nowhere."""
+    swells = slow_swells(house)
+    at = next((swell for swell in swells if slow_wants(house, stand, swell) == ([], [])), None)
+    if at is None:
+        return None
+    chain = []
+    for _, latches in slow_falls(house, stand, at, swells[-1] if up else swells[0])[0]:
+        stand = tuple(sorted(set(stand) ^ set(latches)))
+        chain.append(stand)
+    return chain
+
+
+def slow_graph(house):
+    """For each stand that is settled at some swell, by way, the stands behind each fall of a leg led on and on."""
+    found = {stand: {up: slow_chain(house, stand, up) for up in (True, False)} for stand in all_stands(house)}
+    return {stand: chains for stand, chains in found.items() if chains[True] is not None}
+
+
+def slow_turns(graph, start):
+    """For each stand that can be come to from a start the fewest legs that do it, all histories tried by levels."""
+    turns = {start: 0}
+    levels = {True: {start}, False: {start}}
+    ahead = []
+    # levels that stood ahead already lead to nothing new
+    while levels not in ahead:
+        ahead.append(levels)
+        levels = {up: {there for stand in levels[not up] for there in graph[stand][up]} for up in (True, False)}
+        for stand in levels[True] | levels[False]:
+            turns.setdefault(stand, len(ahead))
+    return turns
+
+
+def slow_reach(graph, start):
+    """All stands that can be come to from a start."""
+    found = {start}
+    waiting = [start]
+    while waiting:
+        for chain in graph[waiting.pop()].values():
+            waiting.extend(set(chain) - found)
+            found.update(chain)
+    return found
+
+
+def slow_islands(graph):
+    """For each stand all those with which it comes to one another."""
+    reach = {stand: slow_reach(graph, stand) for stand in graph}
+    return {stand: sorted(there for there in reach[stand] if stand in reach[there]) for stand in graph}
+
+
 class Refusals:
     """Beside a TestCase: refused(error, fields, deed) where a deed is refused with just this."""
 

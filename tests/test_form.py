@@ -12,7 +12,7 @@ FILES = sorted(path for path in PACKAGE.rglob("*") if "__pycache__" not in path.
 BUILTINS = {"abs", "all", "any", "bool", "dict", "enumerate", "int", "isinstance", "len", "list", "max", "min", "range",
             "reversed", "set", "sorted", "str", "sum", "tuple", "zip", "ValueError"}
 METHODS = {"append", "count", "extend", "get", "index", "isalpha", "isascii", "isdigit", "islower", "items", "join",
-           "partition", "pop", "split", "startswith"}
+           "partition", "pop", "setdefault", "split", "startswith"}
 # what the interface names so: a parameter with the name of a function of its file
 NAMED_SO = {("swings", "goings")}
 BARRED = {"register", "mro", "elements", "open", "input", "law", "help", "id", "vars", "dir", "type", "super", "exit",

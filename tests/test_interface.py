@@ -52,6 +52,15 @@ FUNCTIONS = {
     "dips": {
         "ends": "(house, stand)", "deepest_dip": "(house, stand)", "highest_peak": "(house, stand)",
         "widening": "(house, stand, *, way='dip')"},
+    "comings": {
+        "island_of": "(house, stand)", "leaving": "(house, stand)", "fewest": "(house, stand)",
+        "coming": "(house, stand)"},
+    "judge_comings": {"coming_shows": "(house, stand, paper)"},
+    "reach": {"reached": "(house, *, most=400)", "islands": "(house)"},
+    "apart": {
+        "counts": "(house, stand, history)", "next_pair": "(house, stand, other, there, *, up=True)",
+        "told_apart": "(house, stand, other, there, swell)"},
+    "judge_apart": {"apart_shows": "(house, stand, other, there, swell, paper)"},
 }
 
 CLASSES = {
