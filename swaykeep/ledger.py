@@ -117,6 +117,18 @@ class Ledger:
         check_latch(self._house, latch)
         return self._last[latch]
 
+    def twin(self):
+        """Another Ledger of which all is the same."""
+        other = Ledger(self._house, self.stand_now(), self.swell_now())
+        other._left = list(self._left)
+        other._stands = list(self._stands)
+        other._closed = {swing: many for swing, many in self._closed.items()}
+        other._done = self._done
+        other._ups = list(self._ups)
+        other._downs = list(self._downs)
+        other._last = list(self._last)
+        return other
+
     def __eq__(self, other):
         if not isinstance(other, Ledger):
             return False

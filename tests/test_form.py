@@ -10,9 +10,9 @@ FILES = sorted(path for path in PACKAGE.rglob("*") if "__pycache__" not in path.
 
 # the builtins that the package uses, all of them allowed
 BUILTINS = {"abs", "all", "any", "bool", "dict", "enumerate", "int", "isinstance", "len", "list", "max", "min", "range",
-            "reversed", "set", "sorted", "str", "sum", "tuple", "zip", "ValueError"}
+            "reversed", "set", "sorted", "str", "sum", "tuple", "type", "zip", "ValueError"}
 METHODS = {"append", "count", "extend", "get", "index", "isalpha", "isascii", "isdigit", "islower", "items", "join",
-           "partition", "pop", "setdefault", "split", "startswith"}
+           "partition", "pop", "replace", "setdefault", "split", "startswith"}
 # what the interface names so: a parameter with the name of a function of its file
 NAMED_SO = {("swings", "goings")}
 BARRED = {"register", "mro", "elements", "open", "input", "law", "help", "id", "vars", "dir", "type", "super", "exit",
@@ -24,7 +24,8 @@ NODES = (
     ast.USub, ast.BinOp, ast.Add, ast.Sub, ast.Mult, ast.Eq, ast.NotEq, ast.Lt, ast.LtE, ast.Gt, ast.GtE, ast.Is,
     ast.IsNot, ast.In, ast.NotIn, ast.IfExp, ast.Tuple, ast.List, ast.Dict, ast.ListComp, ast.DictComp,
     ast.comprehension, ast.Subscript, ast.Slice, ast.Starred, ast.JoinedStr, ast.FormattedValue, ast.Mod, ast.Delete,
-    ast.Del, ast.Break, ast.LShift, ast.RShift, ast.BitAnd)
+    ast.Del, ast.Break, ast.LShift, ast.RShift, ast.BitAnd, ast.Try,
+    ast.ExceptHandler)
 
 
 def tree_of(path):
@@ -65,6 +66,18 @@ class FormTest(unittest.TestCase):
                     for sign, side in zip(node.ops, node.comparators):
                         if isinstance(sign, (ast.Is, ast.IsNot)):
                             self.assertIsInstance(side, ast.Constant)
+
+    def test_only_own_refusals_are_caught(self):
+        names = {node.name for node in tree_of(PACKAGE / "errors.py").body if isinstance(node, ast.ClassDef)}
+        for path in FILES:
+            for node in ast.walk(tree_of(path)):
+                if isinstance(node, ast.ExceptHandler):
+                    caught = node.type.elts if isinstance(node.type, ast.Tuple) else [node.type]
+                    self.assertLessEqual({name.id for name in caught}, names)
+                if isinstance(node, ast.Attribute) and node.attr.startswith("__"):
+                    self.assertIn(ast.unparse(node), ("type(e).__name__",), path.name)
+                if isinstance(node, ast.Name) and node.id == "type":
+                    self.assertEqual(1, path.read_text().count("type("))
 
     def test_imports_name_the_file_that_defines_the_name_and_go_one_way(self):
         resting = {}
@@ -140,7 +153,20 @@ class FormTest(unittest.TestCase):
             for node in tree.body[1:]:
                 self.assertIsInstance(node, (ast.ImportFrom, ast.FunctionDef, ast.ClassDef, ast.Assign))
                 if isinstance(node, ast.Assign):
-                    ast.literal_eval(node.value)
+                    self.assertTrue(self.is_plain(node.value, tree, node.lineno), (path.name, node.lineno))
+
+    def is_plain(self, value, tree, line):
+        """Whether a value is a literal one, or a table of functions that are defined above a line."""
+        above = [row.name for row in tree.body if isinstance(row, ast.FunctionDef) and row.lineno < line]
+        if isinstance(value, ast.Dict) and all(isinstance(part, ast.Name) for part in value.values):
+            return all(part.id in above for part in value.values)
+        return ast.literal_eval(value) is not None
+
+    def test_functions_of_tables_are_called_by_a_name(self):
+        for path in FILES:
+            for node in ast.walk(tree_of(path)):
+                if isinstance(node, ast.Call):
+                    self.assertIsInstance(node.func, (ast.Name, ast.Attribute), (path.name, node.lineno))
 
 
 if __name__ == "__main__":

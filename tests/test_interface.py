@@ -61,6 +61,13 @@ FUNCTIONS = {
         "counts": "(house, stand, history)", "next_pair": "(house, stand, other, there, *, up=True)",
         "told_apart": "(house, stand, other, there, swell)"},
     "judge_apart": {"apart_shows": "(house, stand, other, there, swell, paper)"},
+    "plain": {"is_plain": "(house)", "heap_of": "(house)", "plain_house": "(heap)"},
+    "rises": {
+        "first_rise": "(house, low, high)", "closed_swings": "(house, low, high)", "rises": "(house)",
+        "counted": "(house, history)"},
+    "likeness": {"like": "(house)"},
+    "judge_like": {"like_holds": "(house, paper)"},
+    "orders": {"read_order": "(row)", "show_order": "(order)", "is_deed": "(order)"},
 }
 
 CLASSES = {
@@ -84,6 +91,9 @@ CLASSES = {
         "house_now": "(self)", "stand_now": "(self)", "swell_now": "(self)", "rest": "(self)", "rows": "(self)",
         "loss": "(self)", "work": "(self)", "turned": "(self, latch)", "last": "(self, latch)",
         "__eq__": "(self, other)", "__len__": "(self)", "__repr__": "(self)"},
+    ("bench", "Bench"): {
+        "__init__": "(self)", "say": "(self, row)", "sit": "(self, rows)", "log": "(self)", "named": "(self)",
+        "copied": "(self)", "said_again": "(self, log)", "__eq__": "(self, other)", "__len__": "(self)"},
 }
 
 
