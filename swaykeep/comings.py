@@ -70,7 +70,8 @@ def island_of(house, stand):
 def leaving(house, stand):
     """The two islands to which one comes below and above that of a stand, None and None of rest's."""
     bottom, top, low, high = island_of(house, stand)
-    if low is None or high is None:
+    # rest has no end on either side
+    if low is None:
         return None, None
     below = end_of(house, bottom, low - 1, False)
     above = end_of(house, top, high + 1, True)

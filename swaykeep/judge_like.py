@@ -10,7 +10,7 @@ from swaykeep.rises import corners, rise_by_first
 
 def rise_behind(house, low, high, history):
     """The rise of the closed swing with which a history ends, or None where it does not end so."""
-    if len(history) < 3 or history[0] != floor(house) or history[-3:] != [low, high, low]:
+    if history[-3:] != [low, high, low] or history[0] != floor(house):
         return None
     stand = led_to(house, (), history[:-2])
     far = carried(house, stand, low, high)

@@ -26,6 +26,14 @@ def four_by(pieces, up, down):
     return tuple([rise_by(pieces, low, high) for low, high in corners(up, down)])
 
 
+def below_paper(pieces):
+    """The paper of the first pair that has fewer than none, or None where there is no such pair."""
+    for up, down, many in manies_by(pieces):
+        if many < 0:
+            return "below", up, down, four_by(pieces, up, down)
+    return None
+
+
 def unlike_paper(house, low, high, stand):
     """The paper of two swings, the one of a stand, the other one the first, that rise unlike."""
     history = fewest_to(house, stand)
@@ -41,9 +49,9 @@ def like(house):
     if unlike is not None:
         low, high, stand = unlike
         return unlike_paper(house, low, high, stand)
+    below = below_paper(pieces)
+    if below is not None:
+        return below
     heap = manies_by(pieces)
-    for up, down, many in heap:
-        if many < 0:
-            return "below", up, down, four_by(pieces, up, down)
     _, met = searched(Pairs(house, plain_house(heap)), ((), ()), pieces[0][0])
     return "plain", heap, sorted(met)

@@ -24,7 +24,7 @@ class Moves:
             known[stand] = None if fall is None else (fall[0], gone(stand, fall[1], up))
         return known[stand]
 
-    def chain(self, stand, up):
+    def all_steps(self, stand, up):
         """The tuples (swell, stand) of all moves that way, one behind the other."""
         found = []
         following = self.step(stand, up)

@@ -30,9 +30,7 @@ def small_ends(house):
 
 
 def rise_by_first(house, low, high):
-    """The rise of the first swing between two swells, 0 where low isn't below high."""
-    if low >= high:
-        return 0
+    """The rise of the first swing between two swells, 0 where low isn't below high: no leg down leads there."""
     there = end_of(house, (), high, True)
     return len(there) - len(end_of(house, there, low, False))
 
@@ -40,7 +38,7 @@ def rise_by_first(house, low, high):
 def drops_of(moves, stand):
     """The tuples (swell, many) of how many go down at which swell of a leg down from a stand."""
     found = []
-    for swell, there in moves.chain(stand, False):
+    for swell, there in moves.all_steps(stand, False):
         found.append((swell, len(stand) - len(there)))
         stand = there
     return found
@@ -48,7 +46,7 @@ def drops_of(moves, stand):
 
 def pieces_of(moves, ends):
     """The pieces of the rises of first swings, from the floor to the roof."""
-    steps = [(ends[0], ())] + moves.chain((), True)
+    steps = [(ends[0], ())] + moves.all_steps((), True)
     lasts = [swell - 1 for swell, _ in steps[1:]] + [ends[1]]
     return [(begin, last, drops_of(moves, stand)) for (begin, stand), last in zip(steps, lasts)]
 
@@ -83,10 +81,10 @@ def swings_from(house, moves, stand, ends):
     low = ends[0] if low is None else low
     high = ends[1] if high is None else high
     found = [(low, low, low + 1, high, 0)]
-    chain = moves.chain(stand, True)
-    lasts = [swell - 1 for swell, _ in chain[1:]] + [ends[1]]
-    for (swell, there), last in zip(chain, lasts):
-        back = [at for at, again in moves.chain(there, False) if again == stand]
+    steps = moves.all_steps(stand, True)
+    lasts = [swell - 1 for swell, _ in steps[1:]] + [ends[1]]
+    for (swell, there), last in zip(steps, lasts):
+        back = [at for at, again in moves.all_steps(there, False) if again == stand]
         # what it does not bear, it bears no farther swell
         if not back:
             break

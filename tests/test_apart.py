@@ -335,6 +335,16 @@ class JudgeTest(Refusals, unittest.TestCase):
         self.assertEqual("apart", told_apart(*asked)[0])
         self.assertFalse(is_shown(asked, ("alike", [((), ()), ((0,), (0,)), ((0, 1), (0, 1))])))
 
+    def test_pairs_that_share_one_swell(self):
+        # (0,) is settled at 1 alone
+        house = House(((1, 0), (2, 1)))
+        self.assertEqual((1, 1), span(house, (0,)))
+        asked = (house, (), house, (), 0)
+        word, table = told_apart(*asked)
+        self.assertIn(((0,), (0,)), table)
+        self.assertTrue(is_shown(asked, (word, table)))
+        self.assertTrue(is_shown((house, (0,), house, (0,), 1), (word, table)))
+
     def test_layers_with_more_and_in_another_order(self):
         for asked in [*some_pairs(200), (DEEP, (), DEEPER, (), -4)]:
             word, *told = told_apart(*asked)
@@ -474,6 +484,10 @@ class JudgeTest(Refusals, unittest.TestCase):
         alike = told_apart(WIDE, (), WIDE, (), 0)
         self.assertTrue(is_shown((WIDE, (), WIDE, (), 0), alike))
         self.assertFalse(is_shown((WIDE, (), WIDE, (), 9), alike))
+        far = House(((20, -20),))
+        for swell, shown in ((0, True), (-9, False), (9, True)):
+            self.assertIs(shown, is_shown((WIDE, (0,), far, (), swell), ("apart", [swell], [])))
+            self.assertIs(shown, is_shown((far, (), WIDE, (0,), swell), ("apart", [swell], [])))
 
 
 if __name__ == "__main__":

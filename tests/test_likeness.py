@@ -8,7 +8,7 @@ from swaykeep.falls import floor, roof
 from swaykeep.houses import House
 from swaykeep.judge_like import like_holds
 from swaykeep.legs import led
-from swaykeep.likeness import like, manies_by
+from swaykeep.likeness import below_paper, like, manies_by
 from swaykeep.plain import heap_of, plain_house
 from swaykeep.rises import first_rise, rises
 from swaykeep.turning import moved, renamed
@@ -18,6 +18,10 @@ from tests.samples import (BIG, NO_WORDS, STRANGE, Angry, Numbers, Refusals, Yes
 HOUSE = House(((3, 1), (5, 2)), ((0, 1, 1),))
 # between -1 and 3 () rises by one, (0, 1) by none; and F(0, 5) - F(1, 5) - F(0, 4) + F(1, 4) is -1
 UNLIKE = House(((3, 0), (14, 3)), ((0, 1, 9), (1, 0, 2)))
+
+SOME = House(((-2, -4), (3, -4), (9, 2), (0, -4), (1, -1), (5, 3)), ((1, 3, 9), (3, 1, 1), (4, 5, 2), (5, 2, 1)))
+OTHER = House(((3, -3), (4, 2), (-1, -4), (-2, -3)),
+              ((0, 1, 1), (0, 3, 9), (1, 0, 1), (1, 3, 1), (3, 0, 2), (3, 2, 9)))
 
 
 def houses():
@@ -132,8 +136,11 @@ class LikeTest(Refusals, unittest.TestCase):
 
     def test_fewer_than_none(self):
         # told of pieces alone: no house was found whose rises are alike and that has such a pair
-        pieces = [(0, 2, []), (3, 4, [(0, 1)]), (5, 5, [(-2, 2)])]
-        self.assertEqual([(3, 0, 1), (5, -2, 2), (5, 0, -1)], manies_by(pieces))
+        pieces = [(-2, 2, []), (3, 4, [(0, 1)]), (5, 6, [(-2, 2)]), (7, 7, [(-1, 1), (-2, 1)])]
+        self.assertEqual([(3, 0, 1), (5, -2, 2), (5, 0, -1), (7, -2, -1), (7, -1, 1)], manies_by(pieces))
+        self.assertEqual(("below", 5, 0, (0, 0, 1, 0)), below_paper(pieces))
+        self.assertEqual(("below", 7, -2, (2, 1, 2, 0)), below_paper(pieces[:1] + pieces[2:]))
+        self.assertIsNone(below_paper(pieces[:2]))
 
     def test_great_houses_are_refused(self):
         self.refused(TooMany, {"limit": 8}, lambda: like(some_house(1, 9, 3)))
@@ -172,6 +179,8 @@ class JudgeTest(unittest.TestCase):
                     self.judged(False, house, ("plain", [*heap[:at], row, *heap[at + 1:]], table))
             for wrong in (tuple(heap), heap[:-1], heap[::-1] if len(heap) > 1 else None, [*heap, None], None, []):
                 self.judged(False, house, ("plain", wrong, table))
+            for made in (("plain", heap), ("plain",), ("plain", heap, table, table), ["plain", heap, table]):
+                self.judged(False, house, made)
             for wrong in (tuple(table), None, [], [*table, None], [*table, ((), (0,))], [*table, (Yes(), ())]):
                 self.judged(False, house, ("plain", heap, wrong))
 
@@ -211,6 +220,14 @@ class JudgeTest(unittest.TestCase):
             # longer histories that end alike
             self.judged(True, house, (word, low, high, [floor(house), roof(house), *one], [*two, high, low]))
 
+    def test_low_is_below_high(self):
+        histories = [-2, 5, 3, -1, 3], [-2, 3, -1, 3]
+        stands = [led(UNLIKE, (), history)[-3:] for history in histories]
+        self.assertEqual([[(0, 1), (0, 1), (0, 1)], [(0,), (), (0,)]], stands)
+        self.judged(False, UNLIKE, ("unlike", 3, -1, *histories))
+        self.judged(True, UNLIKE, ("unlike", -1, 3, *[history + [-1] for history in histories]))
+        self.judged(False, UNLIKE, ("unlike", 3, 3, [-2, 5, 3, 3, 3], [-2, 3, 3, 3]))
+
     def test_swings_that_are_not_closed(self):
         # (0,) at 1 led to 3 and back comes again as (0, 1)
         house = House(((1, -2), (3, -1)))
@@ -231,6 +248,13 @@ class JudgeTest(unittest.TestCase):
                      ("below", 5, None, four), ("below", "5", 0, four), ("below", 5, 0), ("below", 5, 0, four, 0),
                      ["below", 5, 0, four], ("plain", 5, 0, four), ("below", 5, False, four), ("below", 0, 5, four)):
             self.judged(False, UNLIKE, made)
+        for house, up, down, rises_there in ((SOME, 2, -4, (2, 1, 3, 1)), (OTHER, 1, -4, (0, 0, 2, 1))):
+            self.assertEqual(rises_there, four_of(house, up, down))
+            self.judged(True, house, ("below", up, down, rises_there))
+            for up in range(floor(house), roof(house) + 1):
+                for down in range(floor(house), up):
+                    one, two, three, last = rises_there = four_of(house, up, down)
+                    self.judged(one - two - three + last < 0, house, ("below", up, down, rises_there))
         far = moved(UNLIKE, BIG)
         self.judged(True, far, ("below", 5 + BIG, BIG, four))
         # beyond floor and roof nothing is below 0

@@ -44,7 +44,7 @@ class PlainTest(Refusals, unittest.TestCase):
                  [(3, 4, 1)], [(3, 1)], [(3, 1, 1, 1)], [[3, 1, 1]], [(3, 1, True)], [(True, 0, 1)], [(3, False, 1)],
                  [(3, 1, 1.0)], [(3.0, 1, 1)], [("3", 1, 1)], [(3, 1, None)], [(3, None, 1)], [Angry()], [Yes()],
                  [(Angry(), 1, 1)], [(3, 1, Yes())], [*good, None], [(k, k - 1, 1) for k in range(15)],
-                 [(0, -1, 7), (3, 1, 8)]]
+                 [(0, -1, 7), (3, 1, 8)], [(0, -1, 5), (3, 1, 0)], [(0, -1, 5), (3, 1, -1)], [(0, -1, 0), (3, 1, 5)]]
         for thing in wrong:
             self.refused(NoHeap, {}, lambda: plain_house(thing))
 

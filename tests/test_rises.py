@@ -17,6 +17,12 @@ from tests.samples import BIG, STRANGE, Numbers, Refusals, all_of, slow_leg, som
 HOUSE = House(((3, 1), (5, 2)), ((0, 1, 1),))
 # 1, once up, holds 0 up, and 0 holds 1: so between -1 and 3 () rises by one, (0, 1) by none
 UNLIKE = House(((3, 0), (14, 3)), ((0, 1, 9), (1, 0, 2)))
+# between 2 and 3 () rises by one, (0, 1), settled from 2 on, by none
+NARROW = House(((3, 2), (14, 3)), ((0, 1, 9), (1, 0, 1)))
+# 2, once up, holds 1 up and lets 3 up; (1, 2) rises by two from 0 on, first swings by one from 1 on
+BETWEEN = House(((3, 2), (3, 0), (6, -1), (12, 11)), ((2, 1, 9), (2, 3, 9)))
+# (0, 3) rises by one from 0 to 3, the first swing by two; at 4 the next ones go up
+AT_THE_END = House(((4, -1), (5, 0), (3, 1), (3, 1), (4, 2)), ((4, 3, 1), (4, 0, 1), (0, 3, 2)))
 # an island that rest does not have: (0,) is settled from 0 to 1 and would rise by none there
 ISLAND = House(((4, -1), (9, 2)), ((0, 1, 7), (1, 0, 9)))
 WIDE_APART = House(((101, 100), (5, 0)))
@@ -29,6 +35,18 @@ def houses():
     plain = [plain_house([(3, 1, 1)]), plain_house([(-2, -6, 2), (1, -3, 1), (2, -5, 1)]),
              House(((4, -5), (2, -5), (2, -3), (1, -2)))]
     return [*few, *plain, HOUSE, UNLIKE, ISLAND]
+
+
+def narrow_houses(many):
+    """Small houses of latches that go up and down near one another, and help much."""
+    found = []
+    for seed in range(many):
+        numbers = Numbers(seed)
+        downs = [numbers.between(-2, 3) for _ in range(2 + seed % 3)]
+        pairs = tuple((down + numbers.between(1, 4), down) for down in downs)
+        found.append(House(pairs, tuple((one, other, (1, 1, 2, 3)[numbers.below(4)]) for one in range(len(pairs))
+                                        for other in range(len(pairs)) if one != other and numbers.below(2))))
+    return found
 
 
 def slow_closed(house, low, high):
@@ -122,10 +140,13 @@ class RisesTest(Refusals, unittest.TestCase):
     def test_plain_ones(self):
         self.assertEqual([(1, 2, 0), (1, 3, 1), (1, 4, 2), (2, 3, 0), (2, 4, 0), (3, 4, 0)], rises(HOUSE))
         self.refused(NotAlike, {"low": -1, "high": 3}, lambda: rises(UNLIKE))
+        self.refused(NotAlike, {"low": 2, "high": 3}, lambda: rises(NARROW))
+        self.refused(NotAlike, {"low": 1, "high": 3}, lambda: rises(BETWEEN))
+        self.refused(NotAlike, {"low": 0, "high": 3}, lambda: rises(AT_THE_END))
 
     def test_beside_all_closed_swings(self):
         alike = unlike = 0
-        for house in [*houses(), *some_houses(25, 4)]:
+        for house in [*houses(), *some_houses(25, 4), *narrow_houses(150), NARROW, BETWEEN, AT_THE_END]:
             found = slow_rises(house)
             wrong = sorted(pair for pair, told in found.items() if len(told) > 1)
             if wrong:
@@ -138,7 +159,7 @@ class RisesTest(Refusals, unittest.TestCase):
                 told = rises(house)
                 self.assertEqual([(low, high, worth[0]) for (low, high), worth in sorted(found.items())], told)
                 self.assertEqual(list, told.__class__)
-        self.assertTrue(alike > 40 and unlike > 8, (alike, unlike))
+        self.assertTrue(alike > 40 and unlike > 30, (alike, unlike))
 
     def test_beside_all_histories_of_a_few_turns(self):
         tried = 0
