@@ -8,7 +8,7 @@ The functions above first_rise refuse great houses alone: what else they are han
 
 from swaykeep.errors import NoSwell, NotAlike, TooMany
 from swaykeep.falls import floor, roof
-from swaykeep.guards import check_swell, check_swells
+from swaykeep.guards import check_history, check_swell
 from swaykeep.pulls import limits, rests
 from swaykeep.reach import Moves, turns_to_all
 from swaykeep.residues import residue
@@ -172,7 +172,7 @@ def rises(house):
 def counted(house, history):
     """How many are up behind a history that is led on from () at the floor, by rises."""
     ends = small_ends(house)
-    check_swells(history)
+    check_history(history)
     pieces = pieces_alike(house, ends)
     many = 0
     last = ends[0]

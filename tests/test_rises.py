@@ -124,7 +124,9 @@ class SwingsTest(Refusals, unittest.TestCase):
             self.refused(TooMany, {"limit": 8}, lambda: asked(nine, None, None))
             self.refused(TooMany, {"limit": 100}, lambda: asked(WIDE_APART, 1, None))
         self.refused(TooMany, {"limit": 8}, lambda: counted(nine, None))
-        self.refused(TooMany, {"limit": 100}, lambda: counted(WIDE_APART, [None]))
+        for history in ([None], []):
+            self.refused(TooMany, {"limit": 8}, lambda: counted(nine, history))
+            self.refused(TooMany, {"limit": 100}, lambda: counted(WIDE_APART, history))
 
     def test_a_hundred_apart(self):
         house = House(((100, 99), (5, 0)))
@@ -224,7 +226,6 @@ class CountedTest(Refusals, unittest.TestCase):
             self.assertEqual(counts(house, (), [-BIG, *history])[-1], counted(house, history))
         self.assertEqual(6, counted(house, [-BIG, BIG]))
         self.assertEqual(0, counted(house, [BIG, -BIG]))
-        self.assertEqual(0, counted(house, []))
 
     def test_refused(self):
         for thing in (None, 5, "ab", {0: 1}):
@@ -232,6 +233,19 @@ class CountedTest(Refusals, unittest.TestCase):
         self.refused(NoHistory, {"place": 2}, lambda: counted(HOUSE, [0, 5, None, True]))
         self.refused(NoHistory, {"place": 1}, lambda: counted(UNLIKE, [0, False]))
         self.refused(NotAlike, {"low": -1, "high": 3}, lambda: counted(UNLIKE, [0, 5]))
+
+    def test_no_history_is_refused(self):
+        for house in [*houses(), *narrow_houses(20)]:
+            for history in ([], ()):
+                self.refused(NoHistory, {"place": 0}, lambda: counted(house, history))
+
+    def test_no_history_is_refused_ahead_of_unlike_rises(self):
+        for house in (UNLIKE, NARROW, BETWEEN, AT_THE_END):
+            self.assertRaises(NotAlike, counted, house, [0])
+            self.refused(NoHistory, {"place": 0}, lambda: counted(house, []))
+
+    def test_one_swell(self):
+        self.assertEqual([0, 0, 1, 2, 2], [counted(HOUSE, [swell]) for swell in (-BIG, 2, 3, 4, BIG)])
 
     def test_the_history_stays(self):
         history = [2, 2, 3, 1, 4]

@@ -111,6 +111,7 @@ REFUSED = (
     ("TooMany", {"limit": 100}, lambda: like(House(((BIG, 0),)))),
     ("TooMany", {"limit": 1000}, lambda: branches(House(((BIG, 0),)), (), 0, BIG)),
     ("NoHistory", {"place": 1}, lambda: counted(PLAIN, [0, None])),
+    ("NoHistory", {"place": 0}, lambda: counted(UNLIKE, [])),
     ("NoHistory", {"place": 0}, lambda: counts(HOUSE, (), [])),
     ("NoFall", {"swell": LOW}, lambda: fall_paper(HOUSE, (), LOW)),
     ("NoJoin", {"what": "swell"}, lambda: Leg(HOUSE, (), LOW, HIGH).joined_with(Leg(HOUSE, (), LOW, HIGH))),
